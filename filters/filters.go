@@ -1,0 +1,32 @@
+// Package filters packs and unpacks bytes. It trusts its caller with the filter's number and with how many bytes go in:
+// both are asked for at the face, and a file's streams have other limits than a call has.
+package filters
+
+import "folio/api"
+
+// Encode answers the bytes that the filter decodes as data.
+func Encode(filter int, data []byte) []byte {
+	switch filter {
+	case api.Hex:
+		return encodeHex(data)
+	case api.A85:
+		return encodeA85(data)
+	case api.Run:
+		return encodeRun(data)
+	}
+	return nil
+}
+
+// Decode answers what data means, at most that many bytes. Where it can't, it panics with an api.Errno.
+func Decode(filter int, data []byte, most int) []byte {
+	r := &reader{data: data, most: most}
+	switch filter {
+	case api.Hex:
+		r.decodeHex()
+	case api.A85:
+		r.decodeA85()
+	case api.Run:
+		r.decodeRun()
+	}
+	return r.out
+}
