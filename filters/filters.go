@@ -13,6 +13,8 @@ func Encode(filter int, data []byte) []byte {
 		return encodeA85(data)
 	case api.Run:
 		return encodeRun(data)
+	case api.Flate:
+		return encodeFlate(data)
 	}
 	return nil
 }
@@ -27,6 +29,8 @@ func Decode(filter int, data []byte, most int) []byte {
 		r.decodeA85()
 	case api.Run:
 		r.decodeRun()
+	case api.Flate:
+		r.decodeFlate()
 	}
 	return r.out
 }

@@ -85,6 +85,12 @@ var callsOfP2 = []struct {
 	{api.Run, "abc", "\x02abc\x80"},
 	{api.Run, "aaaabc", "\xfda\x01bc\x80"},
 	{api.Run, mixed(128), "\x7f" + mixed(128) + "\x80"},
+	{api.Flate, "", flate(fixedBlock(""), "")},
+	{api.Flate, "Hi", flate(storedBlock(lastStored, "Hi"), "Hi")},
+	{api.Flate, "Hi", flate(fixedBlock(fixedText("Hi")), "Hi")},
+	{api.Flate, "aaaa", flate(lastOwn+ownCodes(1)+ownA+ownThree+"0"+ownEnd, "aaaa")},
+	{api.Flate, varied(500), flate(storedBlock(lastStored, varied(500)), varied(500))},
+	{api.Flate, same(500), flate(storedBlock(lastStored, same(500)), same(500))},
 }
 
 func TestP2EncodeKeepsNothing(t *testing.T) {
@@ -131,6 +137,8 @@ func TestP2ErrorsLeaveNothing(t *testing.T) {
 		{api.Run, "\x01ab\x01a", 9, "", api.ErrData},
 		{api.Hex, "4", -1, "", api.ErrArg},
 		{api.A85, same(api.MaxFile + 1), 9, "", api.ErrLong},
+		{api.Flate, flate(fixedBlock(fixedText("ab")), "ab"), 1, "", api.ErrCap},
+		{api.Flate, flate(fixedBlock(fixedText("ab")), "ba"), 9, "", api.ErrData},
 	}
 	for _, w := range wrong {
 		g := guard(w.data)
@@ -138,7 +146,10 @@ func TestP2ErrorsLeaveNothing(t *testing.T) {
 			t.Errorf("Decode(%d, %.20q, %d): %q, %d, want %d", w.filter, w.data, w.most, out, e, w.e)
 		}
 		g.check(t, "Decode")
-		checkDecode(t, []decodeCase{{api.Hex, "4869>", 2, "Hi", api.OK}})
+		checkDecode(t, []decodeCase{
+			{api.Hex, "4869>", 2, "Hi", api.OK},
+			{api.Flate, flate(fixedBlock(fixedText("Hi")), "Hi"), 2, "Hi", api.OK},
+		})
 	}
 }
 
@@ -152,6 +163,8 @@ func TestP2SpareRoomIsNoMatter(t *testing.T) {
 		{api.Hex, "48>", 2},
 		{api.A85, "88/~>", 4},
 		{api.Run, "\x00a\x80", 2},
+		{api.Flate, flate(storedBlock(lastStored, "Hi"), "Hi"), 8},
+		{api.Flate, flate(fixedBlock(fixed('a')), "a"), 8},
 	} {
 		if _, e := folio.Decode(c.filter, []byte(c.all)[:c.long], 9); e != api.ErrData {
 			t.Errorf("Decode(%d, %q): %d, want ErrData", c.filter, c.all[:c.long], e)
@@ -160,6 +173,12 @@ func TestP2SpareRoomIsNoMatter(t *testing.T) {
 	checkEncode(t, []encodeCase{{api.Run, "aa", "\xffa\x80"}})
 	if out, _ := folio.Encode(api.Run, []byte("aaa")[:2]); string(out) != "\xffa\x80" {
 		t.Errorf("Encode looked behind its bytes: %q", out)
+	}
+	for long := range 9 {
+		out, _ := folio.Encode(api.Flate, []byte(same(600))[:long])
+		if back := byLibrary(t, out); back != same(long) {
+			t.Errorf("Encode looked behind its bytes: %q", back)
+		}
 	}
 }
 
@@ -182,7 +201,7 @@ func checkBack(t *testing.T, filter int, data []byte) {
 // TestP7DecodeOfEncode: beside the ordinary, bytes of which just MaxFile, or one or more too many, are made.
 func TestP7DecodeOfEncode(t *testing.T) {
 	r := rand.New(rand.NewSource(7))
-	for filter := api.Hex; filter <= api.Run; filter++ {
+	for filter := api.Hex; filter <= api.Flate; filter++ {
 		for range 500 {
 			checkBack(t, filter, randomBytes(r, 700))
 		}
@@ -191,9 +210,10 @@ func TestP7DecodeOfEncode(t *testing.T) {
 				checkBack(t, filter, []byte(data))
 			}
 		}
-		for _, long := range []int{99999, 100000, 159998, 159999, 160000, api.MaxFile} {
+		for _, long := range []int{99999, 100000, 159998, 159999, 160000, 199973, 199974, 199975, api.MaxFile} {
 			checkBack(t, filter, []byte(same(long)))
 			checkBack(t, filter, []byte(mixed(long)))
+			checkBack(t, filter, []byte(varied(long)))
 		}
 	}
 }
