@@ -34,3 +34,18 @@ func Decode(filter int, data []byte, most int) []byte {
 	}
 	return r.out
 }
+
+// Name answers what a filter is called in files.
+func Name(filter int) string {
+	switch filter {
+	case api.Hex:
+		return "ASCIIHexDecode"
+	case api.A85:
+		return "ASCII85Decode"
+	case api.Run:
+		return "RunLengthDecode"
+	case api.Flate:
+		return "FlateDecode"
+	}
+	return ""
+}

@@ -2,15 +2,12 @@ package filters
 
 import "folio/text"
 
-const (
-	hexDigits = "0123456789abcdef"
-	hexEnd    = '>'
-)
+const hexEnd = '>'
 
 func encodeHex(data []byte) []byte {
 	out := make([]byte, 0, 2*len(data)+1)
 	for _, b := range data {
-		out = append(out, hexDigits[b>>4], hexDigits[b&15])
+		out = text.AppendHex(out, b)
 	}
 	return append(out, hexEnd)
 }

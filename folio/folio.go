@@ -3,8 +3,10 @@ package folio
 
 import (
 	"folio/api"
+	"folio/document"
 	"folio/filters"
 	"folio/number"
+	"folio/writer"
 )
 
 // Encode encodes bytes (P3).
@@ -35,7 +37,16 @@ func Decode(filter int, data []byte, most int) (out []byte, wrong api.Errno) {
 }
 
 // Write writes a document (P5).
-func Write(d api.Document) ([]byte, api.Errno) { return nil, api.OK }
+func Write(d api.Document) ([]byte, api.Errno) {
+	if !document.Is(d) {
+		return nil, api.ErrDocument
+	}
+	file := writer.File(d)
+	if !number.Within(len(file), 0, api.MaxFile) {
+		return nil, api.ErrLong
+	}
+	return file, api.OK
+}
 
 // Read reads a file (P6).
 func Read(file []byte, most int) (api.Document, api.Errno) { return api.Document{}, api.OK }

@@ -3,6 +3,8 @@ package text
 
 import "folio/number"
 
+const hexDigits = "0123456789abcdef"
+
 // IsWhite tells whether b may stand between what has a meaning.
 func IsWhite(b byte) bool {
 	switch b {
@@ -10,6 +12,25 @@ func IsWhite(b byte) bool {
 		return true
 	}
 	return false
+}
+
+// IsMark tells whether b ends what stands ahead of it, as white does, but has a meaning of its own.
+func IsMark(b byte) bool {
+	switch b {
+	case '(', ')', '<', '>', '[', ']', '{', '}', '/', '%':
+		return true
+	}
+	return false
+}
+
+// IsPlain tells whether b may be a part of a word.
+func IsPlain(b byte) bool {
+	return !IsWhite(b) && !IsMark(b)
+}
+
+// InName tells whether b may be a part of a name.
+func InName(b byte) bool {
+	return IsPlain(b) && number.Within(b, '!', '~')
 }
 
 // SkipWhite answers the first place from at on that is not white, or the end.
@@ -33,4 +54,9 @@ func HexDigit(b byte) (byte, bool) {
 		return b - 'A' + 10, true
 	}
 	return 0, false
+}
+
+// AppendHex puts b behind out as two hexadecimal digits.
+func AppendHex(out []byte, b byte) []byte {
+	return append(out, hexDigits[b>>4], hexDigits[b&15])
 }

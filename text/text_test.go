@@ -1,6 +1,7 @@
 package text
 
 import (
+	"encoding/hex"
 	"strconv"
 	"strings"
 	"testing"
@@ -11,6 +12,22 @@ func TestIsWhite(t *testing.T) {
 		want := strings.Contains("\x00\t\n\f\r ", string([]byte{byte(b)}))
 		if IsWhite(byte(b)) != want {
 			t.Errorf("IsWhite(%d) = %v", b, !want)
+		}
+	}
+}
+
+func TestIsMark(t *testing.T) {
+	for b := range 256 {
+		one := string([]byte{byte(b)})
+		mark, white := strings.Contains("()<>[]{}/%", one), strings.Contains("\x00\t\n\f\r ", one)
+		if IsMark(byte(b)) != mark {
+			t.Errorf("IsMark(%d) = %v", b, !mark)
+		}
+		if plain := !mark && !white; IsPlain(byte(b)) != plain {
+			t.Errorf("IsPlain(%d) = %v", b, !plain)
+		}
+		if in := !mark && b > 32 && b < 127; InName(byte(b)) != in {
+			t.Errorf("InName(%d) = %v", b, !in)
 		}
 	}
 }
@@ -42,6 +59,15 @@ func TestHexDigit(t *testing.T) {
 		want, err := strconv.ParseUint(string([]byte{byte(b)}), 16, 8)
 		if ok != (err == nil) || uint64(value) != want {
 			t.Errorf("HexDigit(%d) = %d, %v", b, value, ok)
+		}
+	}
+}
+
+func TestAppendHex(t *testing.T) {
+	for b := range 256 {
+		want := "ahead" + hex.EncodeToString([]byte{byte(b)})
+		if got := AppendHex([]byte("ahead"), byte(b)); string(got) != want {
+			t.Errorf("AppendHex(%d) = %q, want %q", b, got, want)
 		}
 	}
 }
