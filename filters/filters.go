@@ -49,3 +49,13 @@ func Name(filter int) string {
 	}
 	return ""
 }
+
+// Named answers which filter is called so in files, 0 if none is.
+func Named(name string) int {
+	for filter := api.Hex; filter <= api.Flate; filter++ {
+		if Name(filter) == name {
+			return filter
+		}
+	}
+	return 0
+}

@@ -132,7 +132,7 @@ func (f *inflater) lengths(told, n int) []int {
 	}
 	c := codesOf(ordered[:])
 	must(c.fill())
-	var all []int
+	all := make([]int, 0, n) // all at once, as a file's streams can mean millions of blocks
 	for len(all) < n {
 		all = f.moreLengths(all, &c)
 	}

@@ -6,6 +6,7 @@ import (
 	"folio/document"
 	"folio/filters"
 	"folio/number"
+	"folio/reader"
 	"folio/writer"
 )
 
@@ -30,7 +31,7 @@ func Decode(filter int, data []byte, most int) (out []byte, wrong api.Errno) {
 	}
 	defer func() {
 		if caught := recover(); caught != nil {
-			out, wrong = nil, told(caught)
+			out, wrong = nil, told(caught, api.ErrData)
 		}
 	}()
 	return filters.Decode(filter, data, most), api.OK
@@ -49,13 +50,26 @@ func Write(d api.Document) ([]byte, api.Errno) {
 }
 
 // Read reads a file (P6).
-func Read(file []byte, most int) (api.Document, api.Errno) { return api.Document{}, api.OK }
+func Read(file []byte, most int) (d api.Document, wrong api.Errno) {
+	if !number.Within(most, 0, api.MaxCap) {
+		return api.Document{}, api.ErrArg
+	}
+	if !number.Within(len(file), 0, api.MaxFile) {
+		return api.Document{}, api.ErrLong
+	}
+	defer func() {
+		if caught := recover(); caught != nil {
+			d, wrong = api.Document{}, told(caught, api.ErrFile)
+		}
+	}()
+	return reader.Document(file, most), api.OK
+}
 
 // told answers the error that a reader gave up with.
-// No call may panic, so that even what no reader meant to tell is an answer: the bytes could not be decoded.
-func told(caught any) api.Errno {
+// No call may panic, so that even what no reader meant to tell is an answer: that what it read can't be right.
+func told(caught any, otherwise api.Errno) api.Errno {
 	if wrong, ok := caught.(api.Errno); ok {
 		return wrong
 	}
-	return api.ErrData
+	return otherwise
 }

@@ -1,7 +1,12 @@
 // Package text knows the bytes that files and filters are made of.
 package text
 
-import "folio/number"
+import (
+	"strconv"
+	"strings"
+
+	"folio/number"
+)
 
 const hexDigits = "0123456789abcdef"
 
@@ -43,6 +48,14 @@ look:
 	return at
 }
 
+// SkipLine answers the first place from at on that is a part of a line's end, or the end.
+func SkipLine(data []byte, at int) int {
+	for at < len(data) && data[at] != '\n' && data[at] != '\r' {
+		at++
+	}
+	return at
+}
+
 // HexDigit answers what a hexadecimal digit of either case counts, and whether b is one.
 func HexDigit(b byte) (byte, bool) {
 	switch {
@@ -59,4 +72,10 @@ func HexDigit(b byte) (byte, bool) {
 // AppendHex puts b behind out as two hexadecimal digits.
 func AppendHex(out []byte, b byte) []byte {
 	return append(out, hexDigits[b>>4], hexDigits[b&15])
+}
+
+// Padded answers n's digits, with as many 0s ahead as it takes to be so many.
+func Padded(n, digits int) string {
+	bare := strconv.Itoa(n)
+	return strings.Repeat("0", max(0, digits-len(bare))) + bare
 }

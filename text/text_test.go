@@ -53,6 +53,40 @@ func TestSkipWhite(t *testing.T) {
 	}
 }
 
+func TestSkipLine(t *testing.T) {
+	for _, c := range []struct {
+		data     string
+		at, want int
+	}{
+		{"", 0, 0},
+		{"a", 0, 1},
+		{"a", 1, 1},
+		{"a\n", 0, 1},
+		{"a\r\n", 0, 1},
+		{"\n", 0, 0},
+		{"\r", 0, 0},
+		{"% \x00\f\v\xff%\nb", 0, 7},
+		{"a\nb\nc", 2, 3},
+	} {
+		if got := SkipLine([]byte(c.data), c.at); got != c.want {
+			t.Errorf("SkipLine(%q, %d) = %d, want %d", c.data, c.at, got, c.want)
+		}
+	}
+}
+
+func TestPadded(t *testing.T) {
+	for _, c := range []struct {
+		n, digits int
+		want      string
+	}{
+		{0, 0, "0"}, {0, 1, "0"}, {0, 2, "00"}, {7, 3, "007"}, {1234, 3, "1234"}, {1234, 4, "1234"}, {199999, 10, "0000199999"},
+	} {
+		if got := Padded(c.n, c.digits); got != c.want {
+			t.Errorf("Padded(%d, %d) = %q, want %q", c.n, c.digits, got, c.want)
+		}
+	}
+}
+
 func TestHexDigit(t *testing.T) {
 	for b := range 256 {
 		value, ok := HexDigit(byte(b))

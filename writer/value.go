@@ -37,7 +37,7 @@ func (f *file) realNumber(n, places int) {
 		f.put("-")
 		n = -n
 	}
-	digits := padded(n, places+1)
+	digits := text.Padded(n, places+1)
 	point := len(digits) - places
 	f.put(digits[:point], ".", digits[point:])
 	if places == 0 {

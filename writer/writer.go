@@ -4,11 +4,11 @@ package writer
 import (
 	"slices"
 	"strconv"
-	"strings"
 
 	"folio/api"
 	"folio/document"
 	"folio/filters"
+	"folio/text"
 )
 
 // File answers d's file. Of one that would be longer than a file may be, it answers a part that is too long already:
@@ -91,7 +91,7 @@ func filterNames(list []int) api.Value {
 func (f *file) crossTable() {
 	f.put("xref\n0 ", strconv.Itoa(len(f.places)+1), "\n0000000000 65535 f \n")
 	for _, place := range f.places {
-		f.put(padded(place, 10), " 00000 n \n")
+		f.put(text.Padded(place, 10), " 00000 n \n")
 	}
 }
 
@@ -103,10 +103,4 @@ func (f *file) trailer(root int) {
 		Items: []api.Value{{Kind: api.Int, N: len(f.places) + 1}, {Kind: api.Ref, N: root}},
 	})
 	f.put("\n")
-}
-
-// padded answers n's digits, with as many 0s ahead as it takes to be so many.
-func padded(n, digits int) string {
-	text := strconv.Itoa(n)
-	return strings.Repeat("0", max(0, digits-len(text))) + text
 }
